@@ -1,0 +1,1 @@
+"""Nearslot: objects in the free cells nearest to their wishes."""

@@ -1,0 +1,64 @@
+"""Cells and tables: what a table is, and where objects are put."""
+
+from nearslot.errors import Full
+
+UNKNOWN = "?"
+
+
+def is_table(thing):
+    """Return whether `thing` is a table."""
+    if not isinstance(thing, tuple):
+        return False
+    size = len(thing)
+    # A list for `all`, not a generator: L7 asks for that once a class of the package has __eq__.
+    return size > 0 and all([fits_row(entry, size) for entry in thing])
+
+
+def fits_row(entry, size):
+    """Return whether `entry` can stand in a table of that size."""
+    if entry is None:
+        return True
+    if isinstance(entry, str):
+        return entry == UNKNOWN
+    # True and False are Python integers, but never wishes.
+    return isinstance(entry, int) and not isinstance(entry, bool) and 0 <= entry < size
+
+
+def nearness(cell, wish):
+    """Return a key that is less for a cell that is nearer to the wish."""
+    return (abs(cell - wish), cell)
+
+
+def needs(size, cell, wish):
+    """Return the ascending tuple of the cells that an object in `cell` with `wish` needs."""
+    own = nearness(cell, wish)
+    return tuple([other for other in range(size) if nearness(other, wish) < own])
+
+
+def nearest(table, wish):
+    """Return the free cell that is nearest to the wish."""
+    free = [cell for cell, entry in enumerate(table) if entry is None]
+    if not free:
+        raise Full(len(table))
+    return min(free, key=lambda cell: nearness(cell, wish))
+
+
+def cells_of(size, wishes):
+    """Return the tuple of the cells of objects that are put into an empty row one after the other."""
+    if len(wishes) > size:
+        raise Full(size)
+    table = [None] * size
+    cells = []
+    for wish in wishes:
+        cell = nearest(table, wish)
+        table[cell] = wish
+        cells.append(cell)
+    return tuple(cells)
+
+
+def filled(size, wishes):
+    """Return the table after objects are put into an empty row one after the other."""
+    table = [None] * size
+    for cell, wish in zip(cells_of(size, wishes), wishes):
+        table[cell] = wish
+    return tuple(table)

@@ -1,0 +1,3 @@
+"""Bounds that the functions of the package share."""
+
+MOST_LISTED = 300
