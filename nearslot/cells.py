@@ -20,8 +20,13 @@ def fits_row(entry, size):
         return True
     if isinstance(entry, str):
         return entry == UNKNOWN
-    # True and False are Python integers, but never wishes.
-    return isinstance(entry, int) and not isinstance(entry, bool) and 0 <= entry < size
+    return in_row(entry, size)
+
+
+def in_row(thing, size):
+    """Return whether `thing` is a cell of a row of that size."""
+    # True and False are Python integers, but never cells.
+    return isinstance(thing, int) and not isinstance(thing, bool) and 0 <= thing < size
 
 
 def nearness(cell, wish):

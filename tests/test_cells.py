@@ -7,13 +7,7 @@ import unittest
 from nearslot.cells import cells_of, filled, is_table, nearest, needs
 from nearslot.errors import Full
 
-
-def outward(size, wish):
-    """The cells of a row, the nearest to the wish first: step by step away from it, the lower side first."""
-    steps = [wish]
-    for far in range(1, size):
-        steps += [wish - far, wish + far]
-    return [cell for cell in steps if 0 <= cell < size]
+from listing import outward
 
 
 def put_in(size, wishes):

@@ -25,17 +25,97 @@ CELLS = '''
 (0, 2, 2, 2, None)
 '''
 
+VERDICTS = '''
+>>> from nearslot.verdicts import verdict
+>>> [verdict((0, 2, 2, 2, None)), verdict((None, 0, None)), verdict((1, 0))]
+[('order', (0, 2, 1, 3)), ('gap', 1, 0), ('both', 0, 1)]
+
+>>> from nearslot.verdicts import shows_order
+>>> [shows_order((0, 2, 2, 2, None), (2, 1, 3, 0)), shows_order((0, 2, 2, 2, None), (2, 3, 1, 0))]
+[True, False]
+
+>>> from nearslot.verdicts import shows_gap
+>>> [shows_gap((None, 0, None), (1, 0)), shows_gap((None, 0, None), (1, 2))]
+[True, False]
+
+>>> from nearslot.verdicts import shows_both
+>>> [shows_both((1, 0), (1, 0)), shows_both((0, 0), (0, 1))]
+[True, False]
+'''
+
+COUNTING = '''
+>>> from nearslot.counting import count_orders
+>>> [count_orders((0, 2, 2, 2, None)), count_orders(("?", "?", "?")), count_orders((1, 0)), count_orders((None,))]
+[4, 6, 0, 1]
+
+>>> from nearslot.counting import count_after
+>>> [count_after((0, 2, 2, 2, None), (2,)), count_after((0, 2, 2, 2, None), (1,))]
+[3, 0]
+
+>>> from nearslot.counting import next_cells
+>>> [next_cells((0, 2, 2, 2, None), (2,)), next_cells((0, 2, 2, 2, None), (1,))]
+[[0, 1], []]
+
+>>> from nearslot.counting import order_at
+>>> order_at((0, 2, 2, 2, None), 3)
+(2, 1, 3, 0)
+
+>>> from nearslot.counting import number_of
+>>> number_of((0, 2, 2, 2, None), (2, 0, 3, 1))
+raises Misfit(place=2)
+
+>>> from nearslot.counting import all_orders
+>>> all_orders((0, 2, 2, 2, None))
+[(0, 2, 1, 3), (2, 0, 1, 3), (2, 1, 0, 3), (2, 1, 3, 0)]
+'''
+
+TIMES = '''
+>>> from nearslot.times import time_counts
+>>> time_counts((0, 2, 2, 2, None), 1)
+[0, 2, 2, 0]
+
+>>> from nearslot.times import count_before
+>>> count_before((0, 2, 2, 2, None), 0, 1)
+2
+
+>>> from nearslot.times import certain_before
+>>> certain_before((0, 2, 2, 2, None), 3)
+(1, 2)
+'''
+
+
+def told(source, names):
+    """What the document shows for a line: the value, `raises` and the error with its fields, or nothing."""
+    try:
+        if source.startswith(("from ", "import ")):
+            exec(source, names)
+            return ""
+        return repr(eval(source, names)) + "\n"
+    except Exception as error:
+        fields = ", ".join(f"{name}={value!r}" for name, value in vars(error).items())
+        return f"raises {type(error).__name__}({fields})\n"
+
 
 class Examples(unittest.TestCase):
-    def check(self, name, text, many):
-        examples = doctest.DocTestParser().get_doctest(text, {}, name, None, 0)
-        told = []
-        results = doctest.DocTestRunner(verbose=False).run(examples, out=told.append)
-        self.assertEqual(results.attempted, many)
-        self.assertEqual(results.failed, 0, "".join(told))
+    def check(self, text, many):
+        examples = doctest.DocTestParser().get_examples(text)
+        names = {}
+        self.assertEqual(len(examples), many)
+        for example in examples:
+            with self.subTest(source=example.source):
+                self.assertEqual(told(example.source, names), example.want)
 
     def test_point_7(self):
-        self.check("point 7", CELLS, 10)
+        self.check(CELLS, 10)
+
+    def test_point_8(self):
+        self.check(VERDICTS, 8)
+
+    def test_point_9(self):
+        self.check(COUNTING, 12)
+
+    def test_point_10(self):
+        self.check(TIMES, 6)
 
 
 if __name__ == "__main__":

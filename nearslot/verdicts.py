@@ -1,0 +1,60 @@
+"""Whether a table is possible: an order that agrees with it, or the reason why there is none."""
+
+from nearslot.cells import in_row
+from nearslot.needing import (
+    first_both,
+    first_gap,
+    first_misfit,
+    need_one_another,
+    needed_cells,
+    ready_cells,
+    taken_cells,
+)
+
+
+def verdict(table):
+    """Return ("order", order), ("gap", cell, empty) or ("both", one, other)."""
+    gap = first_gap(table)
+    if gap is not None:
+        return ("gap", gap[0], gap[1])
+    both = first_both(table)
+    if both is not None:
+        return ("both", both[0], both[1])
+    return ("order", first_order(table))
+
+
+def first_order(table):
+    """Return the first order, in ascending order, that agrees with a possible table."""
+    order = ()
+    # In a possible table every beginning goes on, so the lowest cell at each step is never a mistake.
+    while len(order) < len(taken_cells(table)):
+        order = order + (ready_cells(table, order)[0],)
+    return order
+
+
+def shows_order(table, thing):
+    """Return whether `thing` is an order that agrees with the table."""
+    if not isinstance(thing, tuple) or not all([in_row(cell, len(table)) for cell in thing]):
+        return False
+    return sorted(thing) == taken_cells(table) and first_misfit(table, thing) is None
+
+
+def shows_gap(table, thing):
+    """Return whether `thing` is a pair of a cell whose object needs an empty cell, and such an empty cell."""
+    if not pair_in_row(thing, len(table)):
+        return False
+    cell, empty = thing
+    return table[empty] is None and empty in needed_cells(table, cell)
+
+
+def shows_both(table, thing):
+    """Return whether `thing` is a pair of cells, in any order, whose objects need one another's cell."""
+    if not pair_in_row(thing, len(table)):
+        return False
+    one, other = thing
+    return need_one_another(table, one, other)
+
+
+def pair_in_row(thing, size):
+    """Return whether `thing` is a pair of cells of a row of that size."""
+    return isinstance(thing, tuple) and len(thing) == 2 and all([in_row(cell, size) for cell in thing])

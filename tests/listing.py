@@ -1,0 +1,111 @@
+"""What the tests compare with: objects are really put in, in all orders, without the needs of point 5."""
+
+import itertools
+import random
+
+
+def outward(size, wish):
+    """The cells of a row, the nearest to the wish first: step by step away from it, the lower side first."""
+    steps = [wish]
+    for far in range(1, size):
+        steps += [wish - far, wish + far]
+    return [cell for cell in steps if 0 <= cell < size]
+
+
+def taken(table):
+    return [cell for cell, entry in enumerate(table) if entry is not None]
+
+
+def needed(table, cell):
+    """The cells that the way outward from the wish passes before the cell."""
+    if table[cell] in (None, "?"):
+        return []
+    way = outward(len(table), table[cell])
+    return sorted(way[:way.index(cell)])
+
+
+def goes_in(table, cell, came):
+    """Whether the object gets to its cell if it is put in when those in `came` are there."""
+    if table[cell] == "?":
+        return True
+    return [free for free in outward(len(table), table[cell]) if free not in came][0] == cell
+
+
+def orders(table, came=()):
+    """All orders that agree and begin with `came`, in ascending order."""
+    rest = [cell for cell in taken(table) if cell not in came]
+    if not rest:
+        return [tuple(came)]
+    return [order for cell in rest if goes_in(table, cell, came) for order in orders(table, (*came, cell))]
+
+
+def reason(table):
+    """The gap or the pair that makes a table impossible, by trying all pairs of cells in ascending order."""
+    pairs = list(itertools.product(range(len(table)), repeat=2))
+    for cell, empty in pairs:
+        if table[empty] is None and empty in needed(table, cell):
+            return ("gap", cell, empty)
+    for one, other in pairs:
+        if one in needed(table, other) and other in needed(table, one):
+            return ("both", one, other)
+    return None
+
+
+def tables(size):
+    """All tables of that size."""
+    return list(itertools.product([None, "?", *range(size)], repeat=size))
+
+
+def small_tables(most_cells):
+    return [table for size in range(1, most_cells + 1) for table in tables(size)]
+
+
+def changed_tables(size, many, seed):
+    """Tables of that size, most of them possible: filled rows of which some entries were changed."""
+    chance = random.Random(seed)
+    found = []
+    while len(found) < many:
+        table = [None] * size
+        for wish in [chance.randrange(size) for at in range(size - chance.choice([0, 0, 0, 1, 2]))]:
+            table[[cell for cell in outward(size, wish) if table[cell] is None][0]] = wish
+        for change in range(chance.randrange(5)):
+            cell = chance.randrange(size)
+            if table[cell] is not None:
+                table[cell] = chance.choice(["?", "?", "?", cell, chance.randrange(size)])
+        found.append(tuple(table))
+    return found
+
+
+class Ways:
+    """Numbers of orders of a table over all sets of taken cells, for tables with too many orders to list."""
+
+    def __init__(self, table):
+        self.table = table
+        self.all = frozenset(taken(table))
+        self.sets = [frozenset(some) for many in range(len(self.all) + 1)
+                     for some in itertools.combinations(sorted(self.all), many)]
+        self.steps = {came: [cell for cell in sorted(self.all - came) if goes_in(table, cell, came)]
+                      for came in self.sets}
+        self.until = {came: 0 for came in self.sets}
+        self.until[frozenset()] = 1
+        for came in self.sets:
+            for cell in self.steps[came]:
+                self.until[came | {cell}] += self.until[came]
+        self.after = {self.all: 1}
+        for came in reversed(self.sets[:-1]):
+            self.after[came] = sum(self.after[came | {cell}] for cell in self.steps[came])
+        self.many = self.after[frozenset()]
+
+    def begin_with(self, cells):
+        for at, cell in enumerate(cells):
+            if cell not in self.steps[frozenset(cells[:at])]:
+                return 0
+        return self.after[frozenset(cells)]
+
+    def with_time(self, cell, time):
+        return sum(self.until[came] * self.after[came | {cell}] for came in self.sets
+                   if len(came) == time and cell in self.steps[came])
+
+    def with_before(self, one, other):
+        return sum(self.until[came] * self.after[came | {other}] for came in self.sets
+                   if one in came and other in self.steps[came])
