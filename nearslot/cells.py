@@ -29,6 +29,11 @@ def in_row(thing, size):
     return isinstance(thing, int) and not isinstance(thing, bool) and 0 <= thing < size
 
 
+def all_in_row(thing, size):
+    """Return whether `thing` is a tuple of cells of a row of that size."""
+    return isinstance(thing, tuple) and all([in_row(cell, size) for cell in thing])
+
+
 def nearness(cell, wish):
     """Return a key that is less for a cell that is nearer to the wish."""
     return (abs(cell - wish), cell)

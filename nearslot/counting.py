@@ -31,9 +31,14 @@ def spans_of(table, rest):
     return [span(table, rest, at) for at in range(len(rest))]
 
 
+def within_part(own, first, end):
+    """Return whether the span `own` lies within the part (first, end)."""
+    return first <= own[0] and own[1] <= end
+
+
 def lasts(spans, first, end):
     """Return the objects of the part that can be its last one while those beside the part come later."""
-    return [at for at in range(first, end) if first <= spans[at][0] and spans[at][1] <= end]
+    return [at for at in range(first, end) if within_part(spans[at], first, end)]
 
 
 def count_with_last(counts, first, last, end):
@@ -41,20 +46,31 @@ def count_with_last(counts, first, last, end):
     return choose(end - first - 1, last - first) * counts[(first, last)] * counts[(last + 1, end)]
 
 
+def parts_of(many):
+    """Return the parts of `many` objects that are not empty, the smaller ones first."""
+    return [(first, first + size) for size in range(1, many + 1) for first in range(many - size + 1)]
+
+
 def part_counts(spans):
     """Return the dict of all parts: how many orders each one has."""
     counts = {(first, first): 1 for first in range(len(spans) + 1)}
-    for size in range(1, len(spans) + 1):
-        for first in range(len(spans) - size + 1):
-            end = first + size
-            counts[(first, end)] = sum([count_with_last(counts, first, at, end) for at in lasts(spans, first, end)])
+    for first, end in parts_of(len(spans)):
+        counts[(first, end)] = sum([count_with_last(counts, first, at, end) for at in lasts(spans, first, end)])
     return counts
+
+
+def count_between(table, came, cells):
+    """Return in how many orders the objects in `cells` can come after those in `came`, before all others.
+
+    The table is possible, and each of `came` and `cells` holds all cells that its objects need.
+    """
+    rest = [cell for cell in cells if cell not in came]
+    return part_counts(spans_of(table, rest))[(0, len(rest))]
 
 
 def count_rest(table, came):
     """Return how many orders of a possible table begin with the beginning `came`."""
-    rest = [cell for cell in taken_cells(table) if cell not in came]
-    return part_counts(spans_of(table, rest))[(0, len(rest))]
+    return count_between(table, came, taken_cells(table))
 
 
 def starts_order(table, cells):

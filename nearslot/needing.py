@@ -1,6 +1,7 @@
 """Which objects of a table need which cells, and what can come when: shared by the modules about orders."""
 
 from nearslot.cells import UNKNOWN, needs
+from nearslot.errors import Impossible, NoObject
 
 
 def taken_cells(table):
@@ -44,6 +45,18 @@ def possible(table):
     return first_gap(table) is None and first_both(table) is None
 
 
+def require_possible(table):
+    """Raise an error if no order agrees with the table."""
+    if not possible(table):
+        raise Impossible()
+
+
+def require_object(table, cell):
+    """Raise an error if `cell`, any integer, is not a taken cell."""
+    if cell not in taken_cells(table):
+        raise NoObject(cell)
+
+
 def comes_after_needed(table, cell, came):
     """Return whether all cells that the object in `cell` needs are among those in `came`."""
     return all([needed in came for needed in needed_cells(table, cell)])
@@ -61,3 +74,15 @@ def ready_cells(table, came):
     """Return the ascending list of the cells whose objects can come directly after those in `came`."""
     rest = [cell for cell in taken_cells(table) if cell not in came]
     return [cell for cell in rest if comes_after_needed(table, cell, came)]
+
+
+def first_going_on(table, came, cells):
+    """Return the first order, in ascending order, that begins with the tuple `came` and goes on to all of `cells`.
+
+    The table is possible, and `cells` hold those in `came` and all cells that their objects need.
+    """
+    order = came
+    # Such a beginning always goes on, so the lowest cell at each step is never a mistake.
+    while len(order) < len(cells):
+        order = order + ([cell for cell in ready_cells(table, order) if cell in cells][0],)
+    return order

@@ -1,17 +1,14 @@
 """When an object came, and which of two came first, counted over parts as in counting.py."""
 
 from nearslot.counting import choose, count_orders, count_with_last, lasts, part_counts, spans_of
-from nearslot.errors import Impossible, NoObject
-from nearslot.needing import needed_cells, possible, taken_cells
+from nearslot.needing import needed_cells, require_object, require_possible, taken_cells
 
 
 def require_objects(table, cells):
     """Raise an error if the table is not possible, or else for the first cell without an object."""
-    if not possible(table):
-        raise Impossible()
+    require_possible(table)
     for cell in cells:
-        if cell not in taken_cells(table):
-            raise NoObject(cell)
+        require_object(table, cell)
 
 
 def parts_with(many, low, high):

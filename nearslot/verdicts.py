@@ -1,13 +1,13 @@
 """Whether a table is possible: an order that agrees with it, or the reason why there is none."""
 
-from nearslot.cells import in_row
+from nearslot.cells import all_in_row
 from nearslot.needing import (
     first_both,
     first_gap,
+    first_going_on,
     first_misfit,
     need_one_another,
     needed_cells,
-    ready_cells,
     taken_cells,
 )
 
@@ -20,21 +20,12 @@ def verdict(table):
     both = first_both(table)
     if both is not None:
         return ("both", both[0], both[1])
-    return ("order", first_order(table))
-
-
-def first_order(table):
-    """Return the first order, in ascending order, that agrees with a possible table."""
-    order = ()
-    # In a possible table every beginning goes on, so the lowest cell at each step is never a mistake.
-    while len(order) < len(taken_cells(table)):
-        order = order + (ready_cells(table, order)[0],)
-    return order
+    return ("order", first_going_on(table, (), taken_cells(table)))
 
 
 def shows_order(table, thing):
     """Return whether `thing` is an order that agrees with the table."""
-    if not isinstance(thing, tuple) or not all([in_row(cell, len(table)) for cell in thing]):
+    if not all_in_row(thing, len(table)):
         return False
     return sorted(thing) == taken_cells(table) and first_misfit(table, thing) is None
 
@@ -57,4 +48,4 @@ def shows_both(table, thing):
 
 def pair_in_row(thing, size):
     """Return whether `thing` is a pair of cells of a row of that size."""
-    return isinstance(thing, tuple) and len(thing) == 2 and all([in_row(cell, size) for cell in thing])
+    return all_in_row(thing, size) and len(thing) == 2

@@ -3,6 +3,8 @@
 import itertools
 import random
 
+IMPOSSIBLE = [(1, 0), (None, 0, None), (2, None, 0), (1, 0) + ("?",) * 10, (None, 0) + ("?",) * 10]
+
 
 def outward(size, wish):
     """The cells of a row, the nearest to the wish first: step by step away from it, the lower side first."""
@@ -24,6 +26,17 @@ def needed(table, cell):
     return sorted(way[:way.index(cell)])
 
 
+def put_in(size, wishes):
+    """The cells and the table after objects with the wishes were put in, found by walking outward."""
+    table = [None] * size
+    cells = []
+    for wish in wishes:
+        cell = [cell for cell in outward(size, wish) if table[cell] is None][0]
+        table[cell] = wish
+        cells.append(cell)
+    return tuple(cells), tuple(table)
+
+
 def goes_in(table, cell, came):
     """Whether the object gets to its cell if it is put in when those in `came` are there."""
     if table[cell] == "?":
@@ -37,6 +50,21 @@ def orders(table, came=()):
     if not rest:
         return [tuple(came)]
     return [order for cell in rest if goes_in(table, cell, came) for order in orders(table, (*came, cell))]
+
+
+def histories(table):
+    """All histories, as pairs of an order and the table with all wishes known: all rows of wishes put in."""
+    found = []
+    for wishes in itertools.product(range(len(table)), repeat=len(taken(table))):
+        order, known = put_in(len(table), wishes)
+        if all(entry == other or (entry == "?" and other is not None) for entry, other in zip(table, known)):
+            found.append((order, known))
+    return found
+
+
+def views_of(table):
+    """All views: what is taken after each number of objects, in each order."""
+    return sorted({tuple(sorted(order[:many])) for order in orders(table) for many in range(len(order) + 1)})
 
 
 def reason(table):
@@ -60,6 +88,14 @@ def small_tables(most_cells):
     return [table for size in range(1, most_cells + 1) for table in tables(size)]
 
 
+def nested(depth, make):
+    """A value of lists or tuples within one another, that many deep."""
+    value = 0
+    for level in range(depth):
+        value = make([value])
+    return value
+
+
 def changed_tables(size, many, seed):
     """Tables of that size, most of them possible: filled rows of which some entries were changed."""
     chance = random.Random(seed)
@@ -74,6 +110,26 @@ def changed_tables(size, many, seed):
                 table[cell] = chance.choice(["?", "?", "?", cell, chance.randrange(size)])
         found.append(tuple(table))
     return found
+
+
+def ways_in(table, cell, came):
+    """With how many wishes the object gets to its cell if it is put in when those in `came` are there."""
+    wishes = range(len(table)) if table[cell] == "?" else [table[cell]]
+    return len([wish for wish in wishes
+                if [free for free in outward(len(table), wish) if free not in came][0] == cell])
+
+
+def count_histories_over_sets(table):
+    """The number of histories, over all sets of taken cells."""
+    ways = {frozenset(): 1}
+    for many in range(len(taken(table))):
+        following = {}
+        for came, count in ways.items():
+            for cell in set(taken(table)) - came:
+                more = count * ways_in(table, cell, came)
+                following[came | {cell}] = following.get(came | {cell}, 0) + more
+        ways = following
+    return ways[frozenset(taken(table))]
 
 
 class Ways:

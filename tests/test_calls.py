@@ -4,7 +4,7 @@ import copy
 import itertools
 import unittest
 
-from nearslot import cells, counting, errors, times, verdicts
+from nearslot import cells, counting, errors, leaving, times, verdicts, views, wishes
 
 TABLE = (0, 2, 2, 2, None)
 
@@ -40,6 +40,30 @@ CALLS = [
     (times.count_before, {"table": TABLE, "one": 1, "other": 0}, 2),
     (times.count_before, {"table": TABLE, "one": 2, "other": 3}, 4),
     (times.certain_before, {"table": TABLE, "cell": 3}, (1, 2)),
+    (wishes.count_histories, {"table": (0, "?", None)}, 3),
+    (wishes.wish_counts, {"table": ("?", "?"), "cell": 0}, [(0, 3), (1, 1)]),
+    (wishes.wish_counts, {"table": TABLE, "cell": 3}, [(2, 4)]),
+    (wishes.with_wish, {"table": TABLE, "cell": 3, "wish": "?"}, (0, 2, 2, "?", None)),
+    (wishes.with_wish, {"table": TABLE, "cell": 3, "wish": 2}, TABLE),
+    (views.is_view, {"table": TABLE, "thing": (1, 2)}, True),
+    (views.is_view, {"table": TABLE, "thing": [1, 2]}, False),
+    (views.views, {"table": TABLE, "many": 2}, [(0, 2), (1, 2)]),
+    (views.views, {"table": TABLE, "many": 0}, [()]),
+    (views.views, {"table": TABLE, "many": 5}, []),
+    (views.views, {"table": (1, 0), "many": 0}, []),
+    (views.count_views, {"table": TABLE}, [1, 2, 2, 2, 1]),
+    (views.count_views, {"table": (1, 0)}, [0, 0, 0]),
+    (views.count_through, {"table": TABLE, "seen": [(2,), (1, 2)]}, 2),
+    (views.count_through, {"table": TABLE, "seen": [(1, 2), (2,)]}, 0),
+    (views.count_through, {"table": TABLE, "seen": []}, 4),
+    (views.first_through, {"table": TABLE, "seen": [(2,), (1, 2), (1, 2)]}, (2, 1, 0, 3)),
+    (views.first_through, {"table": TABLE, "seen": []}, (0, 2, 1, 3)),
+    (leaving.needed_by, {"table": TABLE, "cell": 2}, (1, 3)),
+    (leaving.can_leave, {"table": TABLE}, [0, 3]),
+    (leaving.can_leave, {"table": (1, 0)}, []),
+    (leaving.left, {"table": TABLE, "cell": 3}, (0, 2, 2, None, None)),
+    (leaving.batches, {"table": TABLE}, [[0, 2], [1], [3]]),
+    (leaving.batches, {"table": (None, None)}, []),
 ]
 
 # function, its arguments by name, the error and its fields
@@ -57,21 +81,37 @@ RAISING = [
     (times.count_before, {"table": TABLE, "one": 5, "other": 4}, errors.NoObject, {"cell": 5}),
     (times.certain_before, {"table": (1, 0), "cell": 7}, errors.Impossible, {}),
     (times.certain_before, {"table": TABLE, "cell": -1}, errors.NoObject, {"cell": -1}),
+    (wishes.wish_counts, {"table": (1, 0), "cell": 5}, errors.Impossible, {}),
+    (wishes.wish_counts, {"table": TABLE, "cell": 4}, errors.NoObject, {"cell": 4}),
+    (wishes.with_wish, {"table": TABLE, "cell": 4, "wish": 1}, errors.NoObject, {"cell": 4}),
+    (views.views, {"table": ("?",) * 12, "many": 6}, errors.TooMany, {"many": 924}),
+    (views.first_through, {"table": (1, 0), "seen": [(0,), ()]}, errors.Impossible, {}),
+    (views.first_through, {"table": TABLE, "seen": [(2,), (0,)]}, errors.NoWay, {"place": 1}),
+    (leaving.left, {"table": TABLE, "cell": 4}, errors.NoObject, {"cell": 4}),
+    (leaving.left, {"table": TABLE, "cell": 1}, errors.Needed, {"cell": 1}),
+    (leaving.batches, {"table": (1, 0)}, errors.Impossible, {}),
 ]
 
 
-def turned(value, make):
-    """The value with lists or tuples throughout."""
-    return make([turned(one, make) for one in value]) if isinstance(value, (list, tuple)) else value
+def turned(value):
+    """The value with a list or a tuple at each place where one of them stands, at any depth, in all ways."""
+    if not isinstance(value, (list, tuple)):
+        return [value]
+    return [make(inner) for make in (list, tuple) for inner in itertools.product(*[turned(one) for one in value])]
 
 
 def ways_to_pass(arguments):
-    """The arguments as they are, and with lists and tuples in all other ways, except for `thing`."""
-    choices = []
-    for name, value in arguments.items():
-        free = name != "thing" and isinstance(value, (list, tuple))
-        choices.append([turned(value, list), turned(value, tuple)] if free else [value])
-    return [dict(zip(arguments, values)) for values in itertools.product(*choices)]
+    """The arguments with lists and tuples in all ways, except for `thing`."""
+    choices = [[value] if name == "thing" else turned(value) for name, value in arguments.items()]
+    # A copy of its own for each way, as a function that changed its argument would change another way, too.
+    return [copy.deepcopy(dict(zip(arguments, values))) for values in itertools.product(*choices)]
+
+
+def lists_in(value):
+    """The lists in a value, at any depth, the value itself included."""
+    if not isinstance(value, (list, tuple)):
+        return []
+    return [value] * isinstance(value, list) + [inner for one in value for inner in lists_in(one)]
 
 
 class Calls(unittest.TestCase):
@@ -101,7 +141,7 @@ class Calls(unittest.TestCase):
                 with self.subTest(function=function.__name__, given=given):
                     try:
                         function(**given)
-                    except (ValueError, LookupError, OverflowError):
+                    except (ValueError, LookupError, OverflowError, RuntimeError):
                         pass
                     self.assertEqual(repr(given), repr(before))
 
@@ -111,9 +151,10 @@ class Calls(unittest.TestCase):
                 for given in ways_to_pass(arguments):
                     with self.subTest(function=function.__name__, given=given):
                         one, other = function(**given), function(**given)
-                        self.assertIsNot(one, other)
-                        self.assertFalse([value for value in given.values() if value is one])
-                        one.append("more")
+                        held = [lists_in(one), lists_in(other), lists_in(list(given.values()))]
+                        self.assertEqual(len({id(some) for some in sum(held, [])}), len(sum(held, [])))
+                        for some in lists_in(one):
+                            some.append("more")
                         self.assertEqual(repr(other), repr(expected))
                         self.assertEqual(repr(function(**given)), repr(expected))
 
@@ -124,6 +165,14 @@ class Calls(unittest.TestCase):
             self.assertEqual(counting.order_at(table, counting.number_of(table, order)), order)
         self.assertEqual(counting.count_after(table, counting.next_cells(table, ())), 1)
         self.assertEqual(counting.count_after(table, times.certain_before(table, 3)), 0)
+        for many, count in enumerate(views.count_views(table)):
+            for view in views.views(table, many):
+                self.assertIs(views.is_view(table, view), True)
+                self.assertIs(verdicts.shows_order(table, views.first_through(table, [view])), True)
+            passing = [views.count_through(table, [view]) for view in views.views(table, many)]
+            self.assertEqual((len(passing), sum(passing)), (count, 4))
+        self.assertEqual(views.count_through(table, views.views(table, 1)[:1] + views.views(table, 2)[:1]), 1)
+        self.assertEqual(leaving.batches(leaving.left(wishes.with_wish(table, 3, "?"), 3)), [[0, 2], [1]])
 
 
 if __name__ == "__main__":

@@ -7,18 +7,7 @@ import unittest
 from nearslot.cells import cells_of, filled, is_table, nearest, needs
 from nearslot.errors import Full
 
-from listing import outward
-
-
-def put_in(size, wishes):
-    """The cells and the table after objects with the wishes were put in, found by walking outward."""
-    table = [None] * size
-    cells = []
-    for wish in wishes:
-        cell = [cell for cell in outward(size, wish) if table[cell] is None][0]
-        table[cell] = wish
-        cells.append(cell)
-    return tuple(cells), tuple(table)
+from listing import nested, outward, put_in
 
 
 def wish_lists(most_cells):
@@ -27,13 +16,6 @@ def wish_lists(most_cells):
         for many in range(size + 1):
             for wishes in itertools.product(range(size), repeat=many):
                 yield size, wishes
-
-
-def nested(depth, make):
-    value = 0
-    for level in range(depth):
-        value = make([value])
-    return value
 
 
 class IsTable(unittest.TestCase):

@@ -83,6 +83,60 @@ TIMES = '''
 (1, 2)
 '''
 
+WISHES = '''
+>>> from nearslot.wishes import count_histories
+>>> [count_histories((0, 2, 2, 2, None)), count_histories(("?", "?", "?")), count_histories((None, "?", None))]
+[4, 27, 1]
+
+>>> from nearslot.wishes import wish_counts
+>>> [wish_counts(("?", "?"), 0), wish_counts((0, 2, 2, 2, None), 3)]
+[[(0, 3), (1, 1)], [(2, 4)]]
+
+>>> from nearslot.wishes import with_wish
+>>> with_wish((0, 2, 2, 2, None), 3, "?")
+(0, 2, 2, '?', None)
+'''
+
+VIEWS = '''
+>>> from nearslot.views import is_view
+>>> [is_view((0, 2, 2, 2, None), (1, 2)), is_view((0, 2, 2, 2, None), (0, 1)), is_view((0, 2, 2, 2, None), (2, 1))]
+[True, False, False]
+
+>>> from nearslot.views import views
+>>> views((0, 2, 2, 2, None), 2)
+[(0, 2), (1, 2)]
+
+>>> from nearslot.views import count_views
+>>> count_views((0, 2, 2, 2, None))
+[1, 2, 2, 2, 1]
+
+>>> from nearslot.views import count_through
+>>> [count_through((0, 2, 2, 2, None), [(1, 2)]), count_through((0, 2, 2, 2, None), [(1, 2), (0, 2)])]
+[2, 0]
+
+>>> from nearslot.views import first_through
+>>> first_through((0, 2, 2, 2, None), [(1, 2)])
+(2, 1, 0, 3)
+'''
+
+LEAVING = '''
+>>> from nearslot.leaving import needed_by
+>>> [needed_by((0, 2, 2, 2, None), 1), needed_by((0, 2, 2, 2, None), 0)]
+[(3,), ()]
+
+>>> from nearslot.leaving import can_leave
+>>> can_leave((0, 2, 2, 2, None))
+[0, 3]
+
+>>> from nearslot.leaving import left
+>>> left((0, 2, 2, 2, None), 3)
+(0, 2, 2, None, None)
+
+>>> from nearslot.leaving import batches
+>>> batches((0, 2, 2, 2, None))
+[[0, 2], [1], [3]]
+'''
+
 
 def told(source, names):
     """What the document shows for a line: the value, `raises` and the error with its fields, or nothing."""
@@ -116,6 +170,15 @@ class Examples(unittest.TestCase):
 
     def test_point_10(self):
         self.check(TIMES, 6)
+
+    def test_point_11(self):
+        self.check(WISHES, 6)
+
+    def test_point_12(self):
+        self.check(VIEWS, 10)
+
+    def test_point_13(self):
+        self.check(LEAVING, 8)
 
 
 if __name__ == "__main__":

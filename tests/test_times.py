@@ -6,9 +6,7 @@ import unittest
 from nearslot.errors import Impossible, NoObject
 from nearslot.times import certain_before, count_before, time_counts
 
-from listing import Ways, changed_tables, orders, small_tables, taken
-
-IMPOSSIBLE = [(1, 0), (None, 0, None), (2, None, 0), (1, 0) + ("?",) * 10, (None, 0) + ("?",) * 10]
+from listing import IMPOSSIBLE, Ways, changed_tables, orders, small_tables, taken
 
 
 class Small(unittest.TestCase):

@@ -5,14 +5,7 @@ import unittest
 
 from nearslot.verdicts import shows_both, shows_gap, shows_order, verdict
 
-from listing import changed_tables, needed, orders, reason, small_tables, taken
-
-
-def nested(depth, make):
-    value = 0
-    for level in range(depth):
-        value = make([value])
-    return value
+from listing import changed_tables, needed, nested, orders, reason, small_tables, taken
 
 
 # Nothing of this is an order or a pair of cells, whatever the table is.
