@@ -53,22 +53,22 @@ def nearest(table, wish):
     return min(free, key=lambda cell: nearness(cell, wish))
 
 
-def cells_of(size, wishes):
-    """Return the tuple of the cells of objects that are put into an empty row one after the other."""
-    if len(wishes) > size:
-        raise Full(size)
-    table = [None] * size
+def put_into(table, wishes):
+    """Return the table after objects are put into it one after the other, and the list of their cells."""
+    row = list(table)
     cells = []
     for wish in wishes:
-        cell = nearest(table, wish)
-        table[cell] = wish
+        cell = nearest(row, wish)
+        row[cell] = wish
         cells.append(cell)
-    return tuple(cells)
+    return (tuple(row), cells)
+
+
+def cells_of(size, wishes):
+    """Return the tuple of the cells of objects that are put into an empty row one after the other."""
+    return tuple(put_into((None,) * size, wishes)[1])
 
 
 def filled(size, wishes):
     """Return the table after objects are put into an empty row one after the other."""
-    table = [None] * size
-    for cell, wish in zip(cells_of(size, wishes), wishes):
-        table[cell] = wish
-    return tuple(table)
+    return put_into((None,) * size, wishes)[0]

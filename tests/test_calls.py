@@ -4,7 +4,7 @@ import copy
 import itertools
 import unittest
 
-from nearslot import cells, counting, errors, leaving, times, verdicts, views, wishes
+from nearslot import cells, counting, desk, errors, leaving, outcomes, texts, times, verdicts, views, wishes
 
 TABLE = (0, 2, 2, 2, None)
 
@@ -64,6 +64,16 @@ CALLS = [
     (leaving.left, {"table": TABLE, "cell": 3}, (0, 2, 2, None, None)),
     (leaving.batches, {"table": TABLE}, [[0, 2], [1], [3]]),
     (leaving.batches, {"table": (None, None)}, []),
+    (outcomes.is_outcome, {"size": 4, "wishes": [1, 2, 2], "thing": (1, 2, 2, None)}, True),
+    (outcomes.is_outcome, {"size": 4, "wishes": [1, 2, 2], "thing": [1, 2, 2, None]}, False),
+    (outcomes.outcomes, {"size": 4, "wishes": [1, 2, 2]}, [(None, 1, 2, 2), (1, 2, 2, None)]),
+    (outcomes.outcomes, {"size": 2, "wishes": []}, [(None, None)]),
+    (outcomes.outcome_counts, {"size": 4, "wishes": [1, 2, 2]}, [((0, 1, 2), 1), ((1, 2, 3), 1)]),
+    (outcomes.outcome_counts, {"size": 2, "wishes": []}, [((), 1)]),
+    (texts.table_text, {"table": (0, 2, "?", None)}, "0 2 ? -"),
+    (texts.table_in, {"text": "0 2 ? -"}, (0, 2, "?", None)),
+    (desk.answers, {"text": "store 1"}, []),
+    (desk.answers, {"text": "store 1\nput 0\nshow"}, ["0", "0"]),
 ]
 
 # function, its arguments by name, the error and its fields
@@ -90,6 +100,8 @@ RAISING = [
     (leaving.left, {"table": TABLE, "cell": 4}, errors.NoObject, {"cell": 4}),
     (leaving.left, {"table": TABLE, "cell": 1}, errors.Needed, {"cell": 1}),
     (leaving.batches, {"table": (1, 0)}, errors.Impossible, {}),
+    (texts.table_in, {"text": "0 2"}, errors.BadText, {"entry": 1}),
+    (desk.answers, {"text": "store 1\n"}, errors.BadLine, {"line": 1}),
 ]
 
 
@@ -173,6 +185,9 @@ class Calls(unittest.TestCase):
             self.assertEqual((len(passing), sum(passing)), (count, 4))
         self.assertEqual(views.count_through(table, views.views(table, 1)[:1] + views.views(table, 2)[:1]), 1)
         self.assertEqual(leaving.batches(leaving.left(wishes.with_wish(table, 3, "?"), 3)), [[0, 2], [1]])
+        for arisen in outcomes.outcomes(5, [2, 2, 2, 0]):
+            self.assertEqual(texts.table_in(texts.table_text(arisen)), arisen)
+            self.assertGreater(counting.count_orders(arisen), 0)
 
 
 if __name__ == "__main__":

@@ -1,5 +1,6 @@
 """The examples of the document, as they stand there."""
 
+import ast
 import doctest
 import unittest
 
@@ -137,11 +138,47 @@ LEAVING = '''
 [[0, 2], [1], [3]]
 '''
 
+OUTCOMES = '''
+>>> from nearslot.outcomes import is_outcome
+>>> [is_outcome(4, [1, 2, 2], (1, 2, 2, None)), is_outcome(4, [1, 2, 2], (2, 1, 2, None))]
+[True, False]
+
+>>> from nearslot.outcomes import outcomes
+>>> outcomes(4, [1, 2, 2])
+[(None, 1, 2, 2), (1, 2, 2, None)]
+
+>>> from nearslot.outcomes import outcome_counts
+>>> outcome_counts(4, [1, 2, 2])
+[((0, 1, 2), 1), ((1, 2, 3), 1)]
+'''
+
+STORE = '''
+>>> from nearslot.store import Store
+>>> store = Store(5)
+>>> cells = store.put_all([2, 2, 2])
+>>> [cells, store.put(0), store.table(), store.forget(3), store.take_out(3), store.undo(), store.count(), repr(store)]
+[[2, 1, 3], 0, (0, 2, 2, 2, None), 12, 3, True, 12, 'Store(4 of 5 cells)']
+'''
+
+TEXTS = r'''
+>>> from nearslot.texts import table_text
+>>> table_text((0, 2, "?", None))
+'0 2 ? -'
+
+>>> from nearslot.texts import table_in
+>>> table_in("0 2 ? -")
+(0, 2, '?', None)
+
+>>> from nearslot.desk import answers
+>>> answers("store 5\nput 2\nput 2\nput 2\nshow\ncount\ntake 1\ntimes 3\nleave")
+['2', '1', '3', '- 2 2 2 -', '1', 'error Needed', '0 0 1', '3']
+'''
+
 
 def told(source, names):
     """What the document shows for a line: the value, `raises` and the error with its fields, or nothing."""
     try:
-        if source.startswith(("from ", "import ")):
+        if not isinstance(ast.parse(source).body[0], ast.Expr):
             exec(source, names)
             return ""
         return repr(eval(source, names)) + "\n"
@@ -179,6 +216,15 @@ class Examples(unittest.TestCase):
 
     def test_point_13(self):
         self.check(LEAVING, 8)
+
+    def test_point_14(self):
+        self.check(OUTCOMES, 6)
+
+    def test_point_15(self):
+        self.check(STORE, 4)
+
+    def test_point_16(self):
+        self.check(TEXTS, 6)
 
 
 if __name__ == "__main__":
